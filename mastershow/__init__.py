@@ -1,0 +1,1 @@
+"""Mastershow: slides under masters, shown step by step."""

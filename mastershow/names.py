@@ -1,0 +1,77 @@
+"""Names, traits, worths and lines: what is one and what is none."""
+
+from mastershow.errors import NoTrait
+
+TRAITS = ("left", "top", "wide", "high", "size", "ink")
+
+# The least and the greatest worth of each trait whose worths are numbers.
+BOUNDS = {
+    "left": (-999, 999),
+    "top": (-999, 999),
+    "wide": (1, 999),
+    "high": (1, 999),
+    "size": (1, 99),
+}
+
+# The deck's own worths, which stand where nothing is set.
+OWN_WORTHS = {"left": 0, "top": 0, "wide": 40, "high": 10, "size": 1, "ink": "plain"}
+
+LETTERS = "abcdefghijklmnopqrstuvwxyz"
+FIGURES = "0123456789"
+
+# The percent sign and the backslash: they lie from the blank to "~", but no text has them.
+BARRED_CODES = (37, 92)
+
+LONGEST_NAME = 8
+LONGEST_LINE = 60
+MOST_LINES = 12
+
+
+def is_name(thing):
+    """Whether a thing is a name."""
+    if not isinstance(thing, str) or not 1 <= len(thing) <= LONGEST_NAME:
+        return False
+    return thing[0] in LETTERS and all(sign in LETTERS or sign in FIGURES for sign in thing)
+
+
+def is_trait(thing):
+    """Whether a thing is a trait."""
+    return isinstance(thing, str) and thing in TRAITS
+
+
+def is_whole(thing):
+    """Whether a thing is a whole number."""
+    # To Python True and False are ints, to the document they are no numbers.
+    return isinstance(thing, int) and not isinstance(thing, bool)
+
+
+def is_worth(trait, thing):
+    """Whether a thing is a worth of a trait."""
+    if not is_trait(trait):
+        raise NoTrait("no trait")
+    if trait == "ink":
+        return is_name(thing)
+    low, high = BOUNDS[trait]
+    return is_whole(thing) and low <= thing <= high
+
+
+def is_sign(sign):
+    """Whether a sign is one that texts may have."""
+    return " " <= sign <= "~" and ord(sign) not in BARRED_CODES
+
+
+def is_text(thing, longest):
+    """Whether a thing is a text of at most so many signs, none of them a line feed."""
+    return isinstance(thing, str) and len(thing) <= longest and all(is_sign(sign) for sign in thing)
+
+
+def is_line(thing):
+    """Whether a thing is a line."""
+    return is_text(thing, LONGEST_LINE)
+
+
+def is_lines(thing):
+    """Whether a thing is lines."""
+    if not isinstance(thing, tuple) or len(thing) > MOST_LINES:
+        return False
+    return all(is_line(line) for line in thing)

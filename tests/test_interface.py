@@ -1,0 +1,46 @@
+"""The names of the interface stand in the files that list them, with their arguments."""
+
+import ast
+import unittest
+from pathlib import Path
+
+PACKAGE = Path(__file__).resolve().parent.parent / "mastershow"
+
+FUNCTIONS = {
+    "names": {"is_name": ["thing"], "is_worth": ["trait", "thing"], "is_lines": ["thing"]},
+    "masters": {
+        "is_masters": ["thing"],
+        "chain_of": ["masters", "name"],
+        "places_of": ["masters", "name"],
+        "worth_by": ["masters", "name", "place", "trait"],
+        "text_by": ["masters", "name", "place"],
+    },
+}
+
+CLASSES = {
+    "errors": (
+        "DeckError NoDeck NoMaster NoSlide NoPlace NoTrait NoWorth NoSetting NoName Taken TooMany Ring Used"
+        " NoRoom NoSteps NoPress NoTime NoShow NoLink NoNumber NoWord NoDeed NoText NoRow"
+    ).split(),
+}
+
+
+def defined_in(module, kind):
+    tree = ast.parse((PACKAGE / f"{module}.py").read_text())
+    return {node.name: node for node in tree.body if isinstance(node, kind)}
+
+
+class InterfaceTest(unittest.TestCase):
+    def test_functions_are_defined_in_their_files(self):
+        for module, functions in FUNCTIONS.items():
+            found = defined_in(module, ast.FunctionDef)
+            for name, arguments in functions.items():
+                with self.subTest(name):
+                    self.assertEqual([argument.arg for argument in found[name].args.args], arguments)
+
+    def test_classes_are_defined_in_their_files(self):
+        for module, classes in CLASSES.items():
+            found = defined_in(module, ast.ClassDef)
+            for name in classes:
+                with self.subTest(name):
+                    self.assertIn(name, found)
