@@ -1,6 +1,7 @@
 """Names, traits, worths and lines: what is one and what is none."""
 
 from mastershow.errors import NoTrait
+from mastershow.kinds import is_one_of, is_tuple_within, is_whole_within
 
 TRAITS = ("left", "top", "wide", "high", "size", "ink")
 
@@ -36,13 +37,7 @@ def is_name(thing):
 
 def is_trait(thing):
     """Whether a thing is a trait."""
-    return isinstance(thing, str) and thing in TRAITS
-
-
-def is_whole(thing):
-    """Whether a thing is a whole number."""
-    # To Python True and False are ints, to the document they are no numbers.
-    return isinstance(thing, int) and not isinstance(thing, bool)
+    return is_one_of(thing, TRAITS)
 
 
 def is_worth(trait, thing):
@@ -52,7 +47,7 @@ def is_worth(trait, thing):
     if trait == "ink":
         return is_name(thing)
     low, high = BOUNDS[trait]
-    return is_whole(thing) and low <= thing <= high
+    return is_whole_within(thing, low, high)
 
 
 def is_sign(sign):
@@ -72,6 +67,4 @@ def is_line(thing):
 
 def is_lines(thing):
     """Whether a thing is lines."""
-    if not isinstance(thing, tuple) or len(thing) > MOST_LINES:
-        return False
-    return all(is_line(line) for line in thing)
+    return is_tuple_within(thing, 0, MOST_LINES) and all(is_line(line) for line in thing)

@@ -15,6 +15,25 @@ FUNCTIONS = {
         "worth_by": ["masters", "name", "place", "trait"],
         "text_by": ["masters", "name", "place"],
     },
+    "decks": {"fault_of": ["thing"]},
+    "worths": {
+        "worth_at": ["deck", "slide", "place", "trait"],
+        "sheet_of": ["deck", "slide"],
+        "strays_of": ["deck", "slide"],
+    },
+    "changes": {
+        "set_trait": ["deck", "master", "place", "trait", "worth"],
+        "unset_trait": ["deck", "master", "place", "trait"],
+        "put_place": ["deck", "master", "place"],
+        "take_place": ["deck", "master", "place"],
+        "set_text": ["deck", "master", "place", "lines"],
+        "lay_under": ["deck", "master", "over"],
+        "by_hand": ["deck", "slide", "place", "trait", "worth"],
+        "let_go": ["deck", "slide", "place", "trait"],
+        "fill_place": ["deck", "slide", "place", "lines"],
+        "lay_slide": ["deck", "slide", "master"],
+    },
+    "touches": {"touched_by": ["deck", "fresh"]},
 }
 
 CLASSES = {

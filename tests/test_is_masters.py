@@ -3,7 +3,7 @@
 import unittest
 
 from mastershow.masters import is_masters
-from tests.things import MASTERS, STRANGE
+from tests.things import MASTERS, STRANGE, at_way, changed, nodes
 
 
 def with_settings(*settings):
@@ -16,27 +16,6 @@ def with_places(*places):
 
 def with_text(text):
     return with_places(("p", (), text))
-
-
-def nodes(thing, way=()):
-    """The way to each thing within a thing, itself included."""
-    yield way
-    if isinstance(thing, tuple):
-        for at, part in enumerate(thing):
-            yield from nodes(part, way + (at,))
-
-
-def at_way(thing, way):
-    for at in way:
-        thing = thing[at]
-    return thing
-
-
-def changed(thing, way, fresh):
-    if not way:
-        return fresh
-    at = way[0]
-    return thing[:at] + (changed(thing[at], way[1:], fresh),) + thing[at + 1 :]
 
 
 def may_be_none(way):

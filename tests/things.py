@@ -1,4 +1,4 @@
-"""What several tests hand in: things of other kinds, and masters."""
+"""What several tests hand in: things of other kinds, masters, slides and a deck."""
 
 
 class Stranger:
@@ -19,7 +19,29 @@ def deep(kind, depth):
     return thing
 
 
-# None of these is a name, a trait, a worth, a line, lines, a setting, a place or a master.
+def nodes(thing, way=()):
+    """The way to each thing within a thing, itself included."""
+    yield way
+    if isinstance(thing, tuple):
+        for at, part in enumerate(thing):
+            yield from nodes(part, way + (at,))
+
+
+def at_way(thing, way):
+    for at in way:
+        thing = thing[at]
+    return thing
+
+
+def changed(thing, way, fresh):
+    if not way:
+        return fresh
+    at = way[0]
+    return thing[:at] + (changed(thing[at], way[1:], fresh),) + thing[at + 1 :]
+
+
+# None of these is a name, a trait, a worth, a line, lines, a setting, a place or a master,
+# nor a hand, a fill, a step, a link, a slide, a deck or a part of one, other than None.
 STRANGE = (
     True,
     False,
@@ -75,3 +97,47 @@ MASTERS = (
         ),
     ),
 )
+
+# Each part is filled; "gone", "lost", "void" and "where" are none of the places of its master.
+ONE = (
+    "one",
+    "leaf",
+    (("body", "left", 3), ("body", "ink", "grey"), ("gone", "size", 9), ("note", "top", -1), ("top", "wide", 50)),
+    (("body", ("{n} of {all}", "", "third")), ("lost", ("lost",)), ("side", ())),
+    (
+        ("with", 0, "come", "body", 0),
+        ("press", 5, "come", "body", 1),
+        ("after", 2, "dim", "body", None),
+        ("press", 99, "go", "void", 11),
+    ),
+    (("body", ("slide", "three")), ("foot", ("last",)), ("top", ("first",)), ("where", ("return",))),
+    0,
+    "Notes of the first slide.",
+)
+TWO = ("two", "base", (), (), (), (), 1, "")
+THREE = (
+    "three",
+    "other",
+    (("alone", "high", 2), ("body", "left", 5)),
+    (("alone", ()),),
+    (("press", 1, "go", "alone", None),),
+    (("alone", ("slide", "one")),),
+    0,
+    "x" * 200,
+)
+FOUR = ("four", "mid", (("foot", "size", 2),), (), (), (), 0, "")
+SLIDES = (ONE, TWO, THREE, FOUR)
+DECK = (MASTERS, SLIDES)
+
+# What a part of a slide is called, in the order in which a slide tells it.
+PARTS = ("name", "master", "hands", "fills", "steps", "links", "hidden", "notes")
+
+
+def slide_with(slide, **parts):
+    """A slide with some of its parts put in the place of its own."""
+    return tuple(parts.get(part, own) for part, own in zip(PARTS, slide))
+
+
+def bare(name, master="leaf", **parts):
+    """A slide with nothing at it but the parts that are told."""
+    return slide_with((name, master, (), (), (), (), 0, ""), **parts)

@@ -1,0 +1,78 @@
+"""Promise 10: what is handed in as a deck, and is none, is refused with NoDeck, ahead of all else."""
+
+import unittest
+
+from mastershow import changes, touches, worths
+from mastershow.errors import NoDeck
+from tests.things import DECK, FOUR, MASTERS, ONE, SLIDES, STRANGE, bare
+
+# Each function that is handed a deck, with what else it is handed where all is well.
+CALLS = (
+    (worths.worth_at, ("one", "body", "left")),
+    (worths.sheet_of, ("one",)),
+    (worths.strays_of, ("one",)),
+    (changes.set_trait, ("leaf", "body", "left", 1)),
+    (changes.unset_trait, ("leaf", "body", "left")),
+    (changes.put_place, ("leaf", "fresh")),
+    (changes.take_place, ("leaf", "body")),
+    (changes.set_text, ("leaf", "body", ("line",))),
+    (changes.lay_under, ("leaf", None)),
+    (changes.by_hand, ("one", "body", "left", 1)),
+    (changes.let_go, ("one", "body", "left")),
+    (changes.fill_place, ("one", "body", ("line",))),
+    (changes.lay_slide, ("one", "base")),
+    (touches.touched_by, (DECK,)),
+)
+
+# One of each fault, and things of other kinds.
+NO_DECKS = STRANGE + (
+    None,
+    0,
+    "",
+    (),
+    [],
+    MASTERS,
+    SLIDES,
+    (MASTERS,),
+    (MASTERS, SLIDES, ()),
+    [MASTERS, SLIDES],
+    (list(MASTERS), SLIDES),
+    (MASTERS, list(SLIDES)),
+    ((), ()),
+    (MASTERS * 4, SLIDES),
+    (MASTERS, SLIDES * 11),
+    (MASTERS + (("M", None, ()),), SLIDES),
+    (MASTERS + (MASTERS[0],), SLIDES),
+    (MASTERS + (("more", "none", ()),), SLIDES),
+    (MASTERS + (("more", "more", ()),), SLIDES),
+    (MASTERS, SLIDES + (bare("S"),)),
+    (MASTERS, SLIDES + (FOUR,)),
+    (MASTERS, SLIDES + (bare("five", "none"),)),
+    (MASTERS, (ONE,)),
+)
+
+
+class NoDeckTest(unittest.TestCase):
+    def test_a_deck_is_not_refused(self):
+        for function, others in CALLS:
+            with self.subTest(function.__name__):
+                function(DECK, *others)
+
+    def test_no_deck_alone(self):
+        for function, others in CALLS:
+            for thing in NO_DECKS:
+                with self.subTest(function.__name__, kind=str(type(thing))):
+                    self.assertRaises(NoDeck, function, thing, *others)
+
+    def test_no_deck_goes_ahead_of_all_else(self):
+        for function, others in CALLS:
+            for thing in NO_DECKS:
+                for bad in (None, "None", 0, object()):
+                    with self.subTest(function.__name__, kind=str(type(thing))):
+                        self.assertRaises(NoDeck, function, thing, *[bad for _ in others])
+
+    def test_no_deck_of_the_other_deck(self):
+        for thing in NO_DECKS:
+            with self.subTest(kind=str(type(thing))):
+                self.assertRaises(NoDeck, touches.touched_by, DECK, thing)
+                self.assertRaises(NoDeck, touches.touched_by, thing, thing)

@@ -1,0 +1,167 @@
+"""Promises 2 and 3, as they hold over masters, slides and their changes."""
+
+import unittest
+
+from mastershow.changes import (
+    by_hand,
+    fill_place,
+    lay_slide,
+    lay_under,
+    let_go,
+    put_place,
+    set_text,
+    set_trait,
+    take_place,
+    unset_trait,
+)
+from mastershow.errors import Ring
+from mastershow.masters import places_of
+from mastershow.worths import sheet_of, strays_of, worth_at
+from tests.random_decks import TRAITS, some_deck, some_worth
+from tests.things import DECK
+
+MANY = 30
+
+
+def sheets(deck):
+    """Where each worth at each slide comes from: a dict from (slide, place, trait) to (worth, source)."""
+    told = {}
+    for slide in deck[1]:
+        for place, trait, worth, source in sheet_of(deck, slide[0]):
+            told[slide[0], place, trait] = (worth, source)
+    return told
+
+
+def hands_of(deck):
+    return {slide[0]: slide[2] for slide in deck[1]}
+
+
+class SettingTest(unittest.TestCase):
+    """A setting that a master gets or loses changes just those worths that came from it or come from it now."""
+
+    def check(self, ahead, behind, master, place, trait):
+        before, now = sheets(ahead), sheets(behind)
+        self.assertEqual(list(before), list(now))
+        for key, told in before.items():
+            if told != now[key]:
+                self.assertEqual(key[1:], (place, trait))
+                self.assertIn(("master", master), (told[1], now[key][1]))
+        return now
+
+    def test_a_setting_that_a_master_gets(self):
+        for number in range(MANY):
+            deck, chance = some_deck(number)
+            for master, _, _ in deck[0]:
+                for place in places_of(deck[0], master):
+                    trait = chance.choice(TRAITS)
+                    worth = some_worth(chance, trait)
+                    now = self.check(deck, set_trait(deck, master, place, trait, worth), master, place, trait)
+                    for key, told in now.items():
+                        if key[1:] == (place, trait) and told[1] == ("master", master):
+                            self.assertEqual(told[0], worth)
+
+    def test_a_setting_that_a_master_loses(self):
+        for number in range(MANY):
+            deck, _ = some_deck(number)
+            for master, _, places in deck[0]:
+                for place, settings, _ in places:
+                    for trait, _ in settings:
+                        self.check(deck, unset_trait(deck, master, place, trait), master, place, trait)
+
+    def test_a_setting_got_and_lost(self):
+        for number in range(MANY):
+            deck, chance = some_deck(number)
+            for master, _, places in deck[0]:
+                for place, settings, _ in places:
+                    for trait in TRAITS:
+                        if trait not in [known for known, _ in settings]:
+                            there = set_trait(deck, master, place, trait, some_worth(chance, trait))
+                            self.assertEqual(unset_trait(there, master, place, trait), deck)
+
+
+class ByHandTest(unittest.TestCase):
+    """What was set by hand stays through all changes of masters, also while no place of its name is there."""
+
+    def check_hands(self, deck, fresh):
+        self.assertEqual(hands_of(fresh), hands_of(deck))
+        for name, master, hands, *_ in fresh[1]:
+            told = sheet_of(fresh, name)
+            strays = strays_of(fresh, name)
+            for hand in hands:
+                self.assertNotEqual((*hand, ("hand",)) in told, hand[0] in strays)
+
+    def test_through_changes_of_masters(self):
+        for number in range(MANY):
+            deck, chance = some_deck(number)
+            for master, _, places in deck[0]:
+                for place in places_of(deck[0], master):
+                    trait = chance.choice(TRAITS)
+                    self.check_hands(deck, set_trait(deck, master, place, trait, some_worth(chance, trait)))
+                    self.check_hands(deck, set_text(deck, master, place, ("text",)))
+                for place, settings, _ in places:
+                    self.check_hands(deck, take_place(deck, master, place))
+                    for trait, _ in settings:
+                        self.check_hands(deck, unset_trait(deck, master, place, trait))
+                self.check_hands(deck, put_place(deck, master, "fresh"))
+                self.check_hands(deck, lay_under(deck, master, None))
+                for slide in deck[1]:
+                    self.check_hands(deck, lay_slide(deck, slide[0], master))
+
+    def test_through_all_overs(self):
+        for number in range(MANY):
+            deck, _ = some_deck(number)
+            for master, _, _ in deck[0]:
+                for over, _, _ in deck[0]:
+                    try:
+                        fresh = lay_under(deck, master, over)
+                    except Ring:
+                        continue
+                    self.check_hands(deck, fresh)
+
+    def test_while_no_place_of_its_name_is_there(self):
+        gone = take_place(DECK, "other", "alone")
+        self.assertEqual(strays_of(gone, "three"), ["alone", "body"])
+        back = put_place(gone, "other", "alone")
+        self.assertEqual(worth_at(back, "three", "alone", "high"), (2, ("hand",)))
+        self.assertEqual(strays_of(back, "three"), ["body"])
+
+    def test_under_another_master_and_back(self):
+        away = lay_slide(DECK, "one", "other")
+        self.assertEqual(strays_of(away, "one"), ["body", "foot", "gone", "lost", "note", "side", "top", "void", "where"])
+        self.assertEqual(lay_slide(away, "one", "leaf"), DECK)
+
+
+class SameTest(unittest.TestCase):
+    """Nothing that is handed in is changed, and whoever asks the same is told the same."""
+
+    def ask(self, deck):
+        return [
+            [sheet_of(deck, slide[0]) for slide in deck[1]],
+            [strays_of(deck, slide[0]) for slide in deck[1]],
+            set_trait(deck, "leaf", "foot", "left", 5),
+            set_text(deck, "leaf", "foot", ("x",)),
+            unset_trait(deck, "leaf", "body", "left"),
+            put_place(deck, "leaf", "fresh"),
+            take_place(deck, "leaf", "body"),
+            lay_under(deck, "leaf", "other"),
+            by_hand(deck, "one", "foot", "left", 5),
+            let_go(deck, "one", "body", "left"),
+            fill_place(deck, "one", "foot", ("x",)),
+            fill_place(deck, "one", "body", None),
+            lay_slide(deck, "one", "base"),
+        ]
+
+    def test_the_same_is_told_again(self):
+        whole = repr(DECK)
+        first = self.ask(DECK)
+        self.assertEqual(self.ask(DECK), first)
+        self.assertEqual(repr(DECK), whole)
+
+    def test_a_told_list_changed_changes_no_later_answer(self):
+        first = repr(self.ask(DECK))
+        for told in self.ask(DECK)[:2]:
+            for rows in told:
+                rows.clear()
+        sheet_of(DECK, "one").reverse()
+        strays_of(DECK, "one").append("more")
+        self.assertEqual(repr(self.ask(DECK)), first)
