@@ -146,3 +146,8 @@ def slide_of(deck, name):
             if slide[0] == name:
                 return slide
     raise NoSlide("no name of a slide")
+
+
+def names_not_hidden(deck):
+    """The names of the slides that are not hidden, in the deck's order: their numbers go by it, from 1 on."""
+    return [slide[0] for slide in deck[1] if slide[6] == 0]

@@ -34,6 +34,17 @@ FUNCTIONS = {
         "lay_slide": ["deck", "slide", "master"],
     },
     "touches": {"touched_by": ["deck", "fresh"]},
+    "lines": {
+        "lines_at": ["deck", "slide", "place"],
+        "rows_of": ["lines", "wide"],
+        "shrunk_to": ["lines", "wide", "high", "size"],
+        "laid_at": ["deck", "slide", "place"],
+    },
+    "steps": {"groups_of": ["steps"], "times_of": ["steps"]},
+    "pictures": {
+        "picture_of": ["deck", "slide", "presses", "time"],
+        "seen_at": ["deck", "slide", "presses", "time"],
+    },
 }
 
 CLASSES = {
@@ -41,6 +52,21 @@ CLASSES = {
         "DeckError NoDeck NoMaster NoSlide NoPlace NoTrait NoWorth NoSetting NoName Taken TooMany Ring Used"
         " NoRoom NoSteps NoPress NoTime NoShow NoLink NoNumber NoWord NoDeed NoText NoRow"
     ).split(),
+    "shows": ["Show"],
+}
+
+METHODS = {
+    ("shows", "Show"): {
+        "__init__": ["self", "deck", "names"],
+        "where": ["self"],
+        "on": ["self"],
+        "back": ["self"],
+        "jump": ["self", "name"],
+        "return_back": ["self"],
+        "press": ["self", "place"],
+        "trail": ["self"],
+        "picture_now": ["self", "time"],
+    },
 }
 
 
@@ -49,13 +75,17 @@ def defined_in(module, kind):
     return {node.name: node for node in tree.body if isinstance(node, kind)}
 
 
+def arguments_of(function):
+    return [argument.arg for argument in function.args.args]
+
+
 class InterfaceTest(unittest.TestCase):
     def test_functions_are_defined_in_their_files(self):
         for module, functions in FUNCTIONS.items():
             found = defined_in(module, ast.FunctionDef)
             for name, arguments in functions.items():
                 with self.subTest(name):
-                    self.assertEqual([argument.arg for argument in found[name].args.args], arguments)
+                    self.assertEqual(arguments_of(found[name]), arguments)
 
     def test_classes_are_defined_in_their_files(self):
         for module, classes in CLASSES.items():
@@ -63,3 +93,11 @@ class InterfaceTest(unittest.TestCase):
             for name in classes:
                 with self.subTest(name):
                     self.assertIn(name, found)
+
+    def test_methods_are_defined_in_their_classes(self):
+        for (module, name), methods in METHODS.items():
+            body = defined_in(module, ast.ClassDef)[name].body
+            found = {node.name: node for node in body if isinstance(node, ast.FunctionDef)}
+            for method, arguments in methods.items():
+                with self.subTest(method):
+                    self.assertEqual(arguments_of(found[method]), arguments)

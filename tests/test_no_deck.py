@@ -2,9 +2,9 @@
 
 import unittest
 
-from mastershow import changes, touches, worths
+from mastershow import changes, lines, pictures, shows, touches, worths
 from mastershow.errors import NoDeck
-from tests.things import DECK, FOUR, MASTERS, ONE, SLIDES, STRANGE, bare
+from tests.things import DECK, NO_DECKS
 
 # Each function that is handed a deck, with what else it is handed where all is well.
 CALLS = (
@@ -22,33 +22,11 @@ CALLS = (
     (changes.fill_place, ("one", "body", ("line",))),
     (changes.lay_slide, ("one", "base")),
     (touches.touched_by, (DECK,)),
-)
-
-# One of each fault, and things of other kinds.
-NO_DECKS = STRANGE + (
-    None,
-    0,
-    "",
-    (),
-    [],
-    MASTERS,
-    SLIDES,
-    (MASTERS,),
-    (MASTERS, SLIDES, ()),
-    [MASTERS, SLIDES],
-    (list(MASTERS), SLIDES),
-    (MASTERS, list(SLIDES)),
-    ((), ()),
-    (MASTERS * 4, SLIDES),
-    (MASTERS, SLIDES * 11),
-    (MASTERS + (("M", None, ()),), SLIDES),
-    (MASTERS + (MASTERS[0],), SLIDES),
-    (MASTERS + (("more", "none", ()),), SLIDES),
-    (MASTERS + (("more", "more", ()),), SLIDES),
-    (MASTERS, SLIDES + (bare("S"),)),
-    (MASTERS, SLIDES + (FOUR,)),
-    (MASTERS, SLIDES + (bare("five", "none"),)),
-    (MASTERS, (ONE,)),
+    (lines.lines_at, ("one", "body")),
+    (lines.laid_at, ("one", "body")),
+    (pictures.picture_of, ("one", 1, None)),
+    (pictures.seen_at, ("one", 1, None)),
+    (shows.Show, (None,)),
 )
 
 

@@ -284,6 +284,10 @@ class LinksTest(SlideCase):
         self.yes(links=(("p", ("slide", "slide")),))
         self.yes(links=(("a", ("first",)), ("b", ("first",)), ("c", ("slide", "slide")), ("d", ("slide", "slide"))))
 
+    def test_a_slide_that_is_called_as_a_link_is(self):
+        for name in ("first", "last", "return", "slide"):
+            self.told(bare(name, links=(("p", ("slide", name)),)), None)
+
     def test_what_is_no_target(self):
         targets = (
             ("slide",),

@@ -1,4 +1,4 @@
-"""Promises 2 and 3, as they hold over masters, slides and their changes."""
+"""Promises 2 and 3, as they hold over masters, slides, their changes and what is seen of them."""
 
 import unittest
 
@@ -15,7 +15,11 @@ from mastershow.changes import (
     unset_trait,
 )
 from mastershow.errors import Ring
+from mastershow.lines import laid_at, lines_at, rows_of, shrunk_to
 from mastershow.masters import places_of
+from mastershow.pictures import picture_of, seen_at
+from mastershow.shows import Show
+from mastershow.steps import groups_of, times_of
 from mastershow.worths import sheet_of, strays_of, worth_at
 from tests.random_decks import TRAITS, some_deck, some_worth
 from tests.things import DECK
@@ -149,7 +153,20 @@ class SameTest(unittest.TestCase):
             fill_place(deck, "one", "foot", ("x",)),
             fill_place(deck, "one", "body", None),
             lay_slide(deck, "one", "base"),
+            [lines_at(deck, "one", place) for place in ("top", "body", "note", "foot", "side")],
+            [laid_at(deck, "one", place) for place in ("top", "body", "note", "foot", "side")],
+            [groups_of(slide[4]) for slide in deck[1]],
+            [times_of(slide[4]) for slide in deck[1]],
+            [picture_of(deck, "one", presses, None) for presses in (0, 1, 2)],
+            [seen_at(deck, "one", presses, None) for presses in (0, 1, 2)],
+            [self.gone_through(Show(deck, None))],
         ]
+
+    def gone_through(self, show):
+        told = [(show.where(), show.trail(), show.picture_now(1))]
+        while show.on():
+            told.append((show.where(), show.trail(), show.picture_now(1)))
+        return told
 
     def test_the_same_is_told_again(self):
         whole = repr(DECK)
@@ -159,9 +176,37 @@ class SameTest(unittest.TestCase):
 
     def test_a_told_list_changed_changes_no_later_answer(self):
         first = repr(self.ask(DECK))
-        for told in self.ask(DECK)[:2]:
+        for told in self.ask(DECK):
             for rows in told:
-                rows.clear()
+                if isinstance(rows, list):
+                    rows.clear()
         sheet_of(DECK, "one").reverse()
         strays_of(DECK, "one").append("more")
         self.assertEqual(repr(self.ask(DECK)), first)
+
+    def test_lines_handed_in_are_not_changed(self):
+        lines = ["one two three", "", " four "]
+        first = rows_of(lines, 4), shrunk_to(lines, 9, 9, 9)
+        self.assertEqual(lines, ["one two three", "", " four "])
+        self.assertEqual((rows_of(lines, 4), shrunk_to(lines, 9, 9, 9)), first)
+
+
+class SeenTest(unittest.TestCase):
+    """Lines parted in rows lose no word, and fit where it is told that they do."""
+
+    def test_lines_as_they_are_laid(self):
+        for number in range(MANY):
+            deck, _ = some_deck(number)
+            for slide in deck[1]:
+                for place in places_of(deck[0], slide[1]):
+                    laid = laid_at(deck, slide[0], place)
+                    if laid is not None:
+                        self.check(laid, deck, slide[0], place)
+
+    def check(self, laid, deck, slide, place):
+        size, rows = laid
+        wide, high = [worth_at(deck, slide, place, trait)[0] for trait in ("wide", "high")]
+        signs = "".join("".join(lines_at(deck, slide, place)).split(" "))
+        self.assertEqual("".join("".join(rows).split(" ")), signs)
+        self.assertLessEqual(size * len(rows), high)
+        self.assertLessEqual(size * max(map(len, rows), default=1), wide)

@@ -141,3 +141,31 @@ def slide_with(slide, **parts):
 def bare(name, master="leaf", **parts):
     """A slide with nothing at it but the parts that are told."""
     return slide_with((name, master, (), (), (), (), 0, ""), **parts)
+
+
+# None of these is a deck: there is one of each fault, and things of other kinds.
+NO_DECKS = STRANGE + (
+    None,
+    0,
+    "",
+    (),
+    [],
+    MASTERS,
+    SLIDES,
+    (MASTERS,),
+    (MASTERS, SLIDES, ()),
+    [MASTERS, SLIDES],
+    (list(MASTERS), SLIDES),
+    (MASTERS, list(SLIDES)),
+    ((), ()),
+    (MASTERS * 4, SLIDES),
+    (MASTERS, SLIDES * 11),
+    (MASTERS + (("M", None, ()),), SLIDES),
+    (MASTERS + (MASTERS[0],), SLIDES),
+    (MASTERS + (("more", "none", ()),), SLIDES),
+    (MASTERS + (("more", "more", ()),), SLIDES),
+    (MASTERS, SLIDES + (bare("S"),)),
+    (MASTERS, SLIDES + (FOUR,)),
+    (MASTERS, SLIDES + (bare("five", "none"),)),
+    (MASTERS, (ONE,)),
+)
