@@ -1,6 +1,6 @@
 """Changes of masters and of slides: each tells a deck, the one handed in with this alone changed."""
 
-from mastershow.decks import MOST_FILLS, MOST_HANDS, rank_of_hand, refuse_no_deck, slide_of
+from mastershow.decks import FILLS, HANDS, MASTER, MOST_FILLS, MOST_HANDS, rank_of_hand, refuse_no_deck, slide_of
 from mastershow.errors import NoPlace, NoSetting, NoTrait, NoWorth, Ring, Taken, TooMany
 from mastershow.masters import MOST_PLACES, chain_of, master_of, places_of
 from mastershow.names import TRAITS, is_lines, is_name, is_trait, is_worth
@@ -139,28 +139,23 @@ def with_slide(deck, slide):
     return masters, put_by_name(slides, slide)
 
 
-def with_hands(deck, slide, hands):
-    """The deck with these hands at a slide."""
-    return with_slide(deck, (*slide[:2], hands, *slide[3:]))
-
-
-def with_fills(deck, slide, fills):
-    """The deck with these fills at a slide."""
-    return with_slide(deck, (*slide[:3], fills, *slide[4:]))
+def with_part(deck, slide, at, part):
+    """The deck with this part of a slide, told by its place in it, for the one that it has."""
+    return with_slide(deck, (*slide[:at], part, *slide[at + 1 :]))
 
 
 def by_hand(deck, slide, place, trait, worth):
     """The deck with a hand put to a slide."""
     refuse_no_deck(deck)
     found = slide_of(deck, slide)
-    refuse_no_place(deck[0], found[1], place)
+    refuse_no_place(deck[0], found[MASTER], place)
     # What is no trait is refused by is_worth, ahead of what is no worth.
     if not is_worth(trait, worth):
         raise NoWorth("no worth of the trait")
-    hands = [hand for hand in found[2] if hand[:2] != (place, trait)] + [(place, trait, worth)]
+    hands = [hand for hand in found[HANDS] if hand[:2] != (place, trait)] + [(place, trait, worth)]
     if len(hands) > MOST_HANDS:
         raise TooMany("more hands than a slide may have")
-    return with_hands(deck, found, tuple(sorted(hands, key=rank_of_hand)))
+    return with_part(deck, found, HANDS, tuple(sorted(hands, key=rank_of_hand)))
 
 
 def let_go(deck, slide, place, trait):
@@ -169,16 +164,16 @@ def let_go(deck, slide, place, trait):
     found = slide_of(deck, slide)
     if not is_trait(trait):
         raise NoTrait("no trait")
-    if not is_name(place) or (place, trait) not in [hand[:2] for hand in found[2]]:
+    if not is_name(place) or (place, trait) not in [hand[:2] for hand in found[HANDS]]:
         raise NoSetting("no hand of this place and trait")
-    return with_hands(deck, found, tuple(hand for hand in found[2] if hand[:2] != (place, trait)))
+    return with_part(deck, found, HANDS, tuple(hand for hand in found[HANDS] if hand[:2] != (place, trait)))
 
 
 def without_fill(deck, slide, place):
     """The deck with the fill of a place taken out of a slide."""
-    if not is_name(place) or place not in [fill[0] for fill in slide[3]]:
+    if not is_name(place) or place not in [fill[0] for fill in slide[FILLS]]:
         raise NoSetting("no fill of this place")
-    return with_fills(deck, slide, tuple(fill for fill in slide[3] if fill[0] != place))
+    return with_part(deck, slide, FILLS, tuple(fill for fill in slide[FILLS] if fill[0] != place))
 
 
 def fill_place(deck, slide, place, lines):
@@ -187,13 +182,13 @@ def fill_place(deck, slide, place, lines):
     found = slide_of(deck, slide)
     if lines is None:
         return without_fill(deck, found, place)
-    refuse_no_place(deck[0], found[1], place)
+    refuse_no_place(deck[0], found[MASTER], place)
     if not is_lines(lines):
         raise NoWorth("neither lines nor None")
-    fills = put_by_name(found[3], (place, lines))
+    fills = put_by_name(found[FILLS], (place, lines))
     if len(fills) > MOST_FILLS:
         raise TooMany("more fills than a slide may have")
-    return with_fills(deck, found, tuple(sorted(fills)))
+    return with_part(deck, found, FILLS, tuple(sorted(fills)))
 
 
 def lay_slide(deck, slide, master):
@@ -201,4 +196,4 @@ def lay_slide(deck, slide, master):
     refuse_no_deck(deck)
     found = slide_of(deck, slide)
     under = master_of(deck[0], master)
-    return with_slide(deck, (found[0], under[0], *found[2:]))
+    return with_part(deck, found, MASTER, under[0])

@@ -8,6 +8,18 @@ from mastershow.names import MOST_LINES, TRAITS, is_lines, is_name, is_text, is_
 KINDS = ("press", "with", "after")
 DEEDS = ("come", "go", "dim")
 
+# Where a link may lead to that names no slide.
+TURNS = ("first", "last", "return")
+
+# Where the parts of a slide stand in it, behind its name.
+MASTER = 1
+HANDS = 2
+FILLS = 3
+STEPS = 4
+LINKS = 5
+HIDDEN = 6
+NOTES = 7
+
 LONGEST_WAIT = 99
 LONGEST_NOTES = 200
 MOST_HANDS = 48
@@ -68,7 +80,7 @@ def is_target(thing):
     """Whether a thing is what a link may lead to."""
     if is_tuple_of(thing, 2):
         return is_one_of(thing[0], ("slide",)) and is_name(thing[1])
-    return is_tuple_of(thing, 1) and is_one_of(thing[0], ("first", "last", "return"))
+    return is_tuple_of(thing, 1) and is_one_of(thing[0], TURNS)
 
 
 def is_link(thing):
@@ -83,21 +95,39 @@ def is_links(thing):
     return rises([place for place, target in thing])
 
 
+def is_hidden(thing):
+    """Whether a thing tells of a slide whether it is hidden."""
+    return is_whole_within(thing, 0, 1)
+
+
+def is_notes(thing):
+    """Whether a thing is the notes of a slide."""
+    return is_text(thing, LONGEST_NOTES)
+
+
 def is_slide(thing):
     """Whether a thing is a slide: (name, master, hands, fills, steps, links, hidden, notes)."""
     if not is_tuple_of(thing, 8):
         return False
     name, master, hands, fills, steps, links, hidden, notes = thing
-    if not is_name(name) or not is_name(master) or not is_whole_within(hidden, 0, 1):
+    if not is_name(name) or not is_name(master) or not is_hidden(hidden):
         return False
     if not is_hands(hands) or not is_fills(fills) or not is_steps(steps) or not is_links(links):
         return False
-    return is_text(notes, LONGEST_NOTES)
+    return is_notes(notes)
 
 
 def leads_astray(links, names):
     """Whether one of the links leads to a slide that is none of these names."""
     return any(target[0] == "slide" and target[1] not in names for place, target in links)
+
+
+def followed_links(links, names):
+    """Links that follow slides from their old names to the new ones, which a dict tells."""
+    return tuple(
+        (place, ("slide", names[target[1]])) if target[0] == "slide" and target[1] in names else (place, target)
+        for place, target in links
+    )
 
 
 def fault_of_slides(things, masters):
@@ -111,10 +141,10 @@ def fault_of_slides(things, masters):
         return "same", same
     known = [master[0] for master in masters]
     for k, slide in enumerate(things):
-        if slide[1] not in known:
+        if slide[MASTER] not in known:
             return "under", k
     for k, slide in enumerate(things):
-        if leads_astray(slide[5], names):
+        if leads_astray(slide[LINKS], names):
             return "link", k
     return None
 
@@ -148,6 +178,17 @@ def slide_of(deck, name):
     raise NoSlide("no name of a slide")
 
 
+def slides_not_hidden(deck):
+    """The slides that are not hidden, in the deck's order: their numbers go by it, from 1 on."""
+    return [slide for slide in deck[1] if slide[HIDDEN] == 0]
+
+
 def names_not_hidden(deck):
-    """The names of the slides that are not hidden, in the deck's order: their numbers go by it, from 1 on."""
-    return [slide[0] for slide in deck[1] if slide[6] == 0]
+    """The names of the slides that are not hidden, in the deck's order."""
+    return [slide[0] for slide in slides_not_hidden(deck)]
+
+
+def number_here(deck, name):
+    """The number of the slide of this name, or None where it is hidden."""
+    names = names_not_hidden(deck)
+    return names.index(name) + 1 if name in names else None

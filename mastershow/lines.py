@@ -1,6 +1,6 @@
 """Lines at the places of slides, with their fields put in, and in rows that fit."""
 
-from mastershow.decks import names_not_hidden, refuse_no_deck, slide_of
+from mastershow.decks import FILLS, MASTER, names_not_hidden, number_here, refuse_no_deck, slide_of
 from mastershow.errors import NoRoom
 from mastershow.kinds import is_whole_from
 from mastershow.masters import text_by
@@ -10,11 +10,9 @@ from mastershow.worths import worth_here
 
 def fields_of(deck, slide):
     """What is put in at a slide for each word between braces."""
-    numbered = names_not_hidden(deck)
-    number = "-"
-    if slide[0] in numbered:
-        number = str(numbered.index(slide[0]) + 1)
-    return {"n": number, "all": str(len(numbered)), "name": slide[0]}
+    number = number_here(deck, slide[0])
+    all_told = len(names_not_hidden(deck))
+    return {"n": "-" if number is None else str(number), "all": str(all_told), "name": slide[0]}
 
 
 def put_in(line, fields):
@@ -34,8 +32,8 @@ def put_in(line, fields):
 def unfilled_lines(deck, slide, place):
     """The lines at a place of a slide, their fields not put in."""
     # The master is asked first, since it refuses what is no place.
-    text, _ = text_by(deck[0], slide[1], place)
-    for filled, lines in slide[3]:
+    text, _ = text_by(deck[0], slide[MASTER], place)
+    for filled, lines in slide[FILLS]:
         if filled == place:
             return lines
     return () if text is None else text

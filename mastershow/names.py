@@ -55,9 +55,19 @@ def is_sign(sign):
     return " " <= sign <= "~" and ord(sign) not in BARRED_CODES
 
 
+def is_plain(thing):
+    """Whether a thing is a text, none of its signs a line feed."""
+    return isinstance(thing, str) and all(is_sign(sign) for sign in thing)
+
+
 def is_text(thing, longest):
     """Whether a thing is a text of at most so many signs, none of them a line feed."""
-    return isinstance(thing, str) and len(thing) <= longest and all(is_sign(sign) for sign in thing)
+    return is_plain(thing) and len(thing) <= longest
+
+
+def is_word(thing):
+    """Whether a thing is a text of one sign or more, none of them a blank."""
+    return is_plain(thing) and thing != "" and " " not in thing
 
 
 def is_line(thing):

@@ -1,6 +1,6 @@
 """Pictures: what is seen of a slide at a moment, behind so many presses and at a time."""
 
-from mastershow.decks import refuse_no_deck, slide_of
+from mastershow.decks import MASTER, STEPS, refuse_no_deck, slide_of
 from mastershow.errors import NoPress, NoTime
 from mastershow.kinds import is_whole_from, is_whole_within
 from mastershow.lines import lines_here, room_here, rows_of
@@ -10,7 +10,7 @@ from mastershow.steps import groups_of, last_press, times_of
 
 def refuse_no_moment(slide, presses, time):
     """Refuse what is no number of presses of a slide, then what is no time."""
-    if not is_whole_within(presses, 0, last_press(slide[4])):
+    if not is_whole_within(presses, 0, last_press(slide[STEPS])):
         raise NoPress("no number of presses of the slide")
     if time is not None and not is_whole_from(time, 0):
         raise NoTime("no time")
@@ -54,11 +54,11 @@ def state_of(steps, done, place, number):
 def picture_here(deck, slide, presses, time):
     """What is seen of a slide of a deck at a moment: a list of (place, number, line, state)."""
     refuse_no_moment(slide, presses, time)
-    steps = slide[4]
+    steps = slide[STEPS]
     done = done_steps(steps, presses, time)
     return [
         (place, number, line, state_of(steps, done, place, number))
-        for place in places_of(deck[0], slide[1])
+        for place in places_of(deck[0], slide[MASTER])
         for number, line in enumerate(lines_here(deck, slide, place))
     ]
 
@@ -82,7 +82,7 @@ def seen_at(deck, slide, presses, time):
     refuse_no_deck(deck)
     found = slide_of(deck, slide)
     picture = picture_here(deck, found, presses, time)
-    rooms = {place: room_here(deck, found, place) for place in places_of(deck[0], found[1])}
+    rooms = {place: room_here(deck, found, place) for place in places_of(deck[0], found[MASTER])}
     return [
         (place, number, rows_in(rooms[place], line), state)
         for place, number, line, state in picture

@@ -1,6 +1,6 @@
 """Shows: they go on and back, and jump."""
 
-from mastershow.decks import names_not_hidden, refuse_no_deck, slide_of
+from mastershow.decks import LINKS, names_not_hidden, refuse_no_deck, slide_of
 from mastershow.errors import NoLink, NoShow, Taken
 from mastershow.kinds import first_alike
 from mastershow.names import is_name
@@ -24,7 +24,7 @@ def target_at(slide, place):
     """What the link of a slide at a place leads to."""
     # Only a name is looked for: of other things it is not known how they compare.
     if is_name(place):
-        for linked, target in slide[5]:
+        for linked, target in slide[LINKS]:
             if linked == place:
                 return target
     raise NoLink("no link at the place")

@@ -1,6 +1,6 @@
 """Worths at slides: what is set by hand stands before what the slide's master says."""
 
-from mastershow.decks import refuse_no_deck, slide_of
+from mastershow.decks import HANDS, MASTER, refuse_no_deck, slide_of
 from mastershow.masters import places_of, said_of, worth_by, worth_said
 from mastershow.names import TRAITS
 
@@ -8,8 +8,8 @@ from mastershow.names import TRAITS
 def worth_here(masters, slide, place, trait):
     """The worth of a trait of a place at a slide under these masters, and where it comes from."""
     # The master is asked first, since it refuses what is no place and no trait.
-    told = worth_by(masters, slide[1], place, trait)
-    for hand_place, hand_trait, worth in slide[2]:
+    told = worth_by(masters, slide[MASTER], place, trait)
+    for hand_place, hand_trait, worth in slide[HANDS]:
         if hand_place == place and hand_trait == trait:
             return worth, ("hand",)
     return told
@@ -17,10 +17,10 @@ def worth_here(masters, slide, place, trait):
 
 def sheet_here(masters, slide):
     """Each worth at a slide under these masters: a list of (place, trait, worth, source)."""
-    hands = {(place, trait): worth for place, trait, worth in slide[2]}
+    hands = {(place, trait): worth for place, trait, worth in slide[HANDS]}
     told = []
-    for place in places_of(masters, slide[1]):
-        said = said_of(masters, slide[1], place)
+    for place in places_of(masters, slide[MASTER]):
+        said = said_of(masters, slide[MASTER], place)
         for trait in TRAITS:
             worth, source = worth_said(said, trait)
             if (place, trait) in hands:

@@ -45,6 +45,15 @@ FUNCTIONS = {
         "picture_of": ["deck", "slide", "presses", "time"],
         "seen_at": ["deck", "slide", "presses", "time"],
     },
+    "numbers": {
+        "number_of": ["deck", "slide"],
+        "at_number": ["deck", "number"],
+        "outline_of": ["deck", "place"],
+        "found_lines": ["deck", "word"],
+    },
+    "notes": {"notes_of": ["deck"], "notes_pages": ["deck", "slide", "wide", "high"]},
+    "handouts": {"handouts": ["deck", "across", "down", "page"]},
+    "deeds": {"done_deed": ["deck", "deed"]},
 }
 
 CLASSES = {

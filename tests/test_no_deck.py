@@ -2,7 +2,7 @@
 
 import unittest
 
-from mastershow import changes, lines, pictures, shows, touches, worths
+from mastershow import changes, deeds, handouts, lines, notes, numbers, pictures, shows, touches, worths
 from mastershow.errors import NoDeck
 from tests.things import DECK, NO_DECKS
 
@@ -27,6 +27,14 @@ CALLS = (
     (pictures.picture_of, ("one", 1, None)),
     (pictures.seen_at, ("one", 1, None)),
     (shows.Show, (None,)),
+    (numbers.number_of, ("one",)),
+    (numbers.at_number, (1,)),
+    (numbers.outline_of, ("body",)),
+    (numbers.found_lines, ("word",)),
+    (notes.notes_of, ()),
+    (notes.notes_pages, ("one", 1, 1)),
+    (handouts.handouts, (1, 1, (4, 3, 0))),
+    (deeds.done_deed, (("hide", "one", 1),)),
 )
 
 

@@ -14,14 +14,20 @@ from mastershow.changes import (
     take_place,
     unset_trait,
 )
-from mastershow.errors import Ring
+from mastershow.deeds import done_deed
+from mastershow.errors import DeckError, Ring
+from mastershow.handouts import handouts
 from mastershow.lines import laid_at, lines_at, rows_of, shrunk_to
 from mastershow.masters import places_of
+from mastershow.notes import notes_of, notes_pages
+from mastershow.numbers import at_number, found_lines, number_of, outline_of
 from mastershow.pictures import picture_of, seen_at
 from mastershow.shows import Show
 from mastershow.steps import groups_of, times_of
+from mastershow.touches import touched_by
 from mastershow.worths import sheet_of, strays_of, worth_at
 from tests.random_decks import TRAITS, some_deck, some_worth
+from tests.random_deeds import deed_at_master
 from tests.things import DECK
 
 MANY = 30
@@ -122,6 +128,26 @@ class ByHandTest(unittest.TestCase):
                         continue
                     self.check_hands(deck, fresh)
 
+    def test_through_deeds_at_masters(self):
+        words = "set unset place unplace text over master drop".split()
+        for number in range(MANY):
+            deck, chance = some_deck(number)
+            for _ in range(30):
+                try:
+                    fresh = done_deed(deck, deed_at_master(chance, deck, chance.choice(words)))
+                except DeckError:
+                    continue
+                self.check_hands(deck, fresh)
+                deck = fresh
+
+    def test_through_a_master_renamed(self):
+        for number in range(MANY):
+            deck, _ = some_deck(number)
+            for master, _, _ in deck[0]:
+                fresh = done_deed(deck, ("rename", master, "fresh"))
+                self.check_hands(deck, fresh)
+                self.assertEqual(touched_by(deck, fresh), [])
+
     def test_while_no_place_of_its_name_is_there(self):
         gone = take_place(DECK, "other", "alone")
         self.assertEqual(strays_of(gone, "three"), ["alone", "body"])
@@ -160,6 +186,28 @@ class SameTest(unittest.TestCase):
             [picture_of(deck, "one", presses, None) for presses in (0, 1, 2)],
             [seen_at(deck, "one", presses, None) for presses in (0, 1, 2)],
             [self.gone_through(Show(deck, None))],
+            [number_of(deck, slide[0]) for slide in deck[1]],
+            [at_number(deck, number) for number in (1, 2, 3)],
+            outline_of(deck, "body"),
+            found_lines(deck, "one"),
+            notes_of(deck),
+            notes_pages(deck, "one", 5, 2),
+            handouts(deck, 2, 1, (60, 40, 2)),
+            [done_deed(deck, deed) for deed in self.deeds(deck)],
+        ]
+
+    def deeds(self, deck):
+        return [
+            ("master", ("fresh", "leaf", ())),
+            ("rename", "leaf", "fresh"),
+            ("add", 1, ("fresh",) + deck[1][0][1:]),
+            ("take", "two"),
+            ("go", "one", 3),
+            ("call", "three", "fresh"),
+            ("hide", "one", 1),
+            ("note", "one", "notes"),
+            ("steps", "one", ()),
+            ("links", "one", ()),
         ]
 
     def gone_through(self, show):
