@@ -98,4 +98,4 @@ class NoText(DeckError):
 
 
 class NoRow(DeckError):
-    """No row that a desk understands."""
+    """No row of those that may be told, or with a word that may not stand in it."""

@@ -54,6 +54,8 @@ FUNCTIONS = {
     "notes": {"notes_of": ["deck"], "notes_pages": ["deck", "slide", "wide", "high"]},
     "handouts": {"handouts": ["deck", "across", "down", "page"]},
     "deeds": {"done_deed": ["deck", "deed"]},
+    "bringing": {"brought_in": ["deck", "other", "names", "at"]},
+    "texts": {"text_of": ["deck"], "read": ["text"]},
 }
 
 CLASSES = {
@@ -62,6 +64,8 @@ CLASSES = {
         " NoRoom NoSteps NoPress NoTime NoShow NoLink NoNumber NoWord NoDeed NoText NoRow"
     ).split(),
     "shows": ["Show"],
+    "keepers": ["Keeper"],
+    "desk": ["Desk"],
 }
 
 METHODS = {
@@ -76,6 +80,14 @@ METHODS = {
         "trail": ["self"],
         "picture_now": ["self", "time"],
     },
+    ("keepers", "Keeper"): {
+        "__init__": ["self", "deck"],
+        "do": ["self", "deed"],
+        "undo": ["self"],
+        "again": ["self"],
+        "deck": ["self"],
+    },
+    ("desk", "Desk"): {"__init__": ["self"], "say": ["self", "row"]},
 }
 
 

@@ -2,7 +2,21 @@
 
 import unittest
 
-from mastershow import changes, deeds, handouts, lines, notes, numbers, pictures, shows, touches, worths
+from mastershow import (
+    bringing,
+    changes,
+    deeds,
+    handouts,
+    keepers,
+    lines,
+    notes,
+    numbers,
+    pictures,
+    shows,
+    texts,
+    touches,
+    worths,
+)
 from mastershow.errors import NoDeck
 from tests.things import DECK, NO_DECKS
 
@@ -35,6 +49,9 @@ CALLS = (
     (notes.notes_pages, ("one", 1, 1)),
     (handouts.handouts, (1, 1, (4, 3, 0))),
     (deeds.done_deed, (("hide", "one", 1),)),
+    (keepers.Keeper, ()),
+    (bringing.brought_in, (DECK, ["one"], 0)),
+    (texts.text_of, ()),
 )
 
 

@@ -102,7 +102,8 @@ class OutlineTest(unittest.TestCase):
 
     def test_the_order_of_the_slides(self):
         masters, slides = DECK
-        self.told("foot", ("four", 1, "mid foot"), ("three", 2, ""), ("one", 3, "mid foot"), deck=(masters, slides[::-1]))
+        turned = (masters, slides[::-1])
+        self.told("foot", ("four", 1, "mid foot"), ("three", 2, ""), ("one", 3, "mid foot"), deck=turned)
 
     def test_no_place(self):
         for thing in NO_NAMES:
