@@ -123,11 +123,10 @@ def rename_master(deck, name, other):
     masters, slides = deck
     old = master_of(masters, name)[0]
     refuse_no_new_name(names_in(masters), old, other)
-    masters = tuple(
-        (other if own == old else own, other if over == old else over, places) for own, over, places in masters
-    )
-    slides = tuple((slide[0], other if slide[MASTER] == old else slide[MASTER], *slide[2:]) for slide in slides)
-    return masters, slides
+    names = {old: other}
+    renamed = tuple((names.get(own, own), names.get(over, over), places) for own, over, places in masters)
+    moved = tuple((slide[0], names.get(slide[MASTER], slide[MASTER]), *slide[MASTER + 1 :]) for slide in slides)
+    return renamed, moved
 
 
 def add_slide(deck, at, slide):
